@@ -1,0 +1,121 @@
+"""What the tests share: ways found by trying, clubs made at hand, and calls that are watched."""
+
+from copy import deepcopy
+from itertools import product
+
+EXAMPLE = [
+    (0, "alone", 2),
+    (0, "alone", 1),
+    (1, "brought", 1),
+    (1, "brought", 0),
+    (2, "brought", 0),
+    (3, "brought", 0),
+]
+
+# Objects that are no club, no member of one and no conflict.
+STRANGE = [0, 7, -1, True, None, "", "club", (), {}, {"day": 1}]
+
+
+def lists_of_bringers(club, upto=None):
+    """Every list of bringers in which nobody brings more than its number.
+
+    With a day upto only the members with a day up to it need a bringer.
+    """
+    found = []
+
+    def go_on(chosen, left):
+        member = len(chosen)
+        if member == len(club):
+            found.append((chosen, left))
+            return
+        day, came, _ = club[member]
+        if came == "alone" or (upto is not None and day > upto):
+            go_on(chosen + [None], left)
+            return
+        for bringer in range(len(club)):
+            if club[bringer][0] < day and left[bringer] > 0:
+                go_on(chosen + [bringer], left[:bringer] + [left[bringer] - 1] + left[bringer + 1:])
+
+    go_on([], [row[2] for row in club])
+    return found
+
+
+def ways_by_trying(club):
+    """All ways of the club, each member's bringer tried in turn."""
+    return [chosen for chosen, left in lists_of_bringers(club) if not any(left)]
+
+
+def conflict_by_trying(club):
+    """The conflict, found without free or slack."""
+    for day in sorted({row[0] for row in club}):
+        if not lists_of_bringers(club, upto=day):
+            return ("day", day)
+    left = sum(row[2] for row in club) - sum(row[1] == "brought" for row in club)
+    return ("left", left) if left else None
+
+
+def links_by_trying(club):
+    """For each link that can be, in how many ways it is; and the number of ways."""
+    ways = ways_by_trying(club)
+    links = {}
+    for way in ways:
+        for member, bringer in enumerate(way):
+            if bringer is not None:
+                links[bringer, member] = links.get((bringer, member), 0) + 1
+    return links, len(ways)
+
+
+def day_lists(size):
+    """Lists of days: each behind the one before by 0, 1 or 2, from day 0 on."""
+    for steps in product((0, 1, 2), repeat=size - 1):
+        days = [0]
+        for step in steps:
+            days.append(days[-1] + step)
+        yield days
+
+
+def small_clubs(size):
+    """All clubs of so many members with such days and numbers up to 2."""
+    for days in day_lists(size):
+        for cames in product(("alone", "brought"), repeat=size):
+            for numbers in product((0, 1, 2), repeat=size):
+                yield list(zip(days, cames, numbers))
+
+
+def random_club(chance, size):
+    """A club that has a way: each brought member counts at a member of a lesser day."""
+    days = sorted(chance.randrange(size) * 3 for _ in range(size))
+    cames, numbers = [], [0] * size
+    for day in days:
+        earlier = [i for i in range(size) if days[i] < day]
+        if earlier and chance.random() < 0.75:
+            cames.append("brought")
+            numbers[chance.choice(earlier)] += 1
+        else:
+            cames.append("alone")
+    return list(zip(days, cames, numbers))
+
+
+def error_of(call, *args, **named):
+    """The error that a call raises, checked to leave its arguments as they were."""
+    before = deepcopy((args, named))
+    try:
+        call(*args, **named)
+    except Exception as error:
+        assert repr((args, named)) == repr(before), "the arguments were modified"
+        return error
+    raise AssertionError(f"{call.__name__} raised nothing")
+
+
+def answer_of(call, *args, **named):
+    """What a call returns, checked to be the same again, new, and to leave its arguments as they were."""
+    before = deepcopy((args, named))
+    first = call(*args, **named)
+    second = call(*args, **named)
+    assert repr((args, named)) == repr(before), "the arguments were modified"
+    assert first == second, "two equal calls returned unlike results"
+    if isinstance(first, list):
+        assert first is not second, "two calls returned one list"
+        first.append("changed by the caller")
+        assert call(*args, **named) == second, "a returned list is kept by the program"
+    return second
