@@ -4,7 +4,7 @@ The functions of the interface check their arguments. The others, which the
 rest of the package shares, trust that the club they get was checked.
 """
 
-from broughtin.errors import Impossible, InvalidClub, InvalidDay, InvalidMember
+from broughtin.errors import Impossible, InvalidClub, InvalidDay, InvalidIndex, InvalidMember
 
 LIMIT = 10 ** 30
 MOST_MEMBERS = 60
@@ -63,6 +63,27 @@ def check_possible(club):
         raise Impossible(word, number)
 
 
+def check_one(club, member):
+    """Check the arguments of a question about one member of a possible club."""
+    check_club(club)
+    check_member(club, member)
+    check_possible(club)
+
+
+def check_two(club, one, two):
+    """Check the arguments of a question about two members of a possible club."""
+    check_club(club)
+    check_member(club, one)
+    check_member(club, two)
+    check_possible(club)
+
+
+def check_index(index, many):
+    """Raise InvalidIndex for what is no index of so many things."""
+    if not is_whole(index, many - 1):
+        raise InvalidIndex("nothing has this index")
+
+
 def slots_before(club, day):
     """The sum of the numbers of the members with a lesser day."""
     return sum([row[2] for row in club if row[0] < day])
@@ -81,6 +102,15 @@ def slack_on(club, day):
 def all_days(club):
     """The days of the club, ascending, each once."""
     return sorted({row[0] for row in club})
+
+
+def day_table(club):
+    """For each day of the club, ascending, the tuple (day, free, slack)."""
+    table = []
+    for day in all_days(club):
+        free = slots_before(club, day) - brought_before(club, day)
+        table.append((day, free, slack_on(club, day)))
+    return table
 
 
 def all_brought(club):

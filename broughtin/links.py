@@ -1,6 +1,6 @@
 """Links: who can have brought whom in a possible club."""
 
-from broughtin.clubs import all_brought, all_days, check_club, check_member, check_possible, slack_on
+from broughtin.clubs import all_brought, all_days, check_club, check_one, check_possible, check_two, slack_on
 
 
 def full_days(club):
@@ -8,8 +8,8 @@ def full_days(club):
     return [day for day in all_days(club)[1:] if slack_on(club, day) == 0]
 
 
-def reason_against(club, closings, bringer, member):
-    """The first reason why no way has this link, or None if one has it."""
+def plain_reason(club, bringer, member):
+    """The first reason that the two rows alone give against a link or a line, or None."""
     start, _, number = club[bringer]
     end, came, _ = club[member]
     if came == "alone":
@@ -18,8 +18,16 @@ def reason_against(club, closings, bringer, member):
         return ("none",)
     if start >= end:
         return ("days",)
+    return None
+
+
+def reason_against(club, closings, bringer, member):
+    """The first reason why no way has this link, or None if one has it."""
+    reason = plain_reason(club, bringer, member)
+    if reason is not None:
+        return reason
     for day in closings:
-        if start < day < end:
+        if club[bringer][0] < day < club[member][0]:
             return ("closing", day)
     return None
 
@@ -29,33 +37,21 @@ def candidates(club, closings, member):
     return [i for i in range(len(club)) if reason_against(club, closings, i, member) is None]
 
 
-def check_link(club, bringer, member):
-    """Check the arguments of a question about one link."""
-    check_club(club)
-    check_member(club, bringer)
-    check_member(club, member)
-    check_possible(club)
-
-
 def can_bring(club, bringer, member):
     """Whether some way has the link of the two."""
-    check_link(club, bringer, member)
+    check_two(club, bringer, member)
     return reason_against(club, full_days(club), bringer, member) is None
 
 
 def bringers_of(club, member):
     """The ascending list of those who can have brought the member."""
-    check_club(club)
-    check_member(club, member)
-    check_possible(club)
+    check_one(club, member)
     return candidates(club, full_days(club), member)
 
 
 def brought_by(club, bringer):
     """The ascending list of those whom the bringer can have brought."""
-    check_club(club)
-    check_member(club, bringer)
-    check_possible(club)
+    check_one(club, bringer)
     closings = full_days(club)
     return [j for j in range(len(club)) if reason_against(club, closings, bringer, j) is None]
 
@@ -69,7 +65,7 @@ def closing_days(club):
 
 def link_paper(club, bringer, member):
     """None if the link can be, else the first reason that holds against it."""
-    check_link(club, bringer, member)
+    check_two(club, bringer, member)
     return reason_against(club, full_days(club), bringer, member)
 
 

@@ -1,7 +1,7 @@
 import inspect
 import unittest
 
-from broughtin import clubs, links
+from broughtin import clubs, known, links, shares, ways
 
 # The functions that the document lists, with their arguments.
 INTERFACE = [
@@ -14,6 +14,18 @@ INTERFACE = [
         "can_bring": ["club", "bringer", "member"], "bringers_of": ["club", "member"],
         "brought_by": ["club", "bringer"], "closing_days": ["club"], "link_paper": ["club", "bringer", "member"],
         "sure_links": ["club"],
+    }),
+    (ways, {
+        "is_way": ["club", "thing"], "count_ways": ["club"], "nth_way": ["club", "index"],
+        "way_index": ["club", "way"], "fair_way": ["club", "draws"],
+    }),
+    (known, {
+        "can_hold": ["club", "links"], "span_paper": ["club", "links"], "rest_club": ["club", "links"],
+        "count_with": ["club", "links"], "way_with": ["club", "links"],
+    }),
+    (shares, {
+        "share": ["club", "bringer", "member"], "joint_share": ["club", "links"], "surest": ["club", "member"],
+        "bringer_shares": ["club", "member"],
     }),
 ]
 

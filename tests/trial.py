@@ -1,7 +1,14 @@
 """What the tests share: ways found by trying, clubs made at hand, and calls that are watched."""
 
+import random
 from copy import deepcopy
+from fractions import Fraction
+from functools import lru_cache
 from itertools import product
+
+from broughtin.errors import Impossible
+
+TOP = 10 ** 30
 
 EXAMPLE = [
     (0, "alone", 2),
@@ -12,8 +19,27 @@ EXAMPLE = [
     (3, "brought", 0),
 ]
 
+# Its six ways, ascending.
+EXAMPLE_WAYS = [
+    [None, None, 0, 0, 1, 2], [None, None, 0, 0, 2, 1], [None, None, 0, 1, 0, 2],
+    [None, None, 0, 1, 2, 0], [None, None, 1, 0, 0, 2], [None, None, 1, 0, 2, 0],
+]
+
+# Clubs that are not possible, with what conflict_of tells of them.
+NOT_POSSIBLE = [
+    ([(0, "alone", 0), (2, "brought", 1), (4, "brought", 3)], ("day", 2)),
+    ([(0, "alone", 2), (1, "brought", 0), (1, "alone", 2)], ("left", 3)),
+    ([(0, "alone", TOP), (TOP, "brought", TOP), (TOP, "brought", 0)], ("left", 2 * TOP - 2)),
+    ([(0, "alone", 1), (1, "brought", 0), (TOP, "brought", 1)], ("day", TOP)),
+]
+
 # Objects that are no club, no member of one and no conflict.
 STRANGE = [0, 7, -1, True, None, "", "club", (), {}, {"day": 1}]
+INVALID_CLUBS = STRANGE + [
+    [], tuple(EXAMPLE), [(0, "alone", True)], [(0, "alone", 0)] * 61, EXAMPLE + [(2, "alone", 0)],
+]
+# Integers that are no member's index of the example.
+NO_MEMBERS = [-1, 6, 7, 60, TOP, -TOP, True, False]
 
 
 def lists_of_bringers(club, upto=None):
@@ -82,18 +108,60 @@ def small_clubs(size):
                 yield list(zip(days, cames, numbers))
 
 
-def random_club(chance, size):
-    """A club that has a way: each brought member counts at a member of a lesser day."""
-    days = sorted(chance.randrange(size) * 3 for _ in range(size))
+def random_club(chance, size, spread=None, brought=0.75):
+    """A club that has a way: each brought member counts at a member of a lesser day.
+
+    The days are spread over so many; the fewer, the more ways there are.
+    """
+    days = sorted(chance.randrange(spread or size) * 3 for _ in range(size))
     cames, numbers = [], [0] * size
     for day in days:
         earlier = [i for i in range(size) if days[i] < day]
-        if earlier and chance.random() < 0.75:
+        if earlier and chance.random() < brought:
             cames.append("brought")
             numbers[chance.choice(earlier)] += 1
         else:
             cames.append("alone")
     return list(zip(days, cames, numbers))
+
+
+@lru_cache(maxsize=None)
+def tried_clubs():
+    """Possible clubs of 1 to 9 members, each with all its ways: all small ones and some larger ones."""
+    chance = random.Random(23)
+    clubs = [club for size in (1, 2, 3, 4) for club in small_clubs(size)]
+    clubs += [random_club(chance, size) for size in (5, 6, 7) for _ in range(40)]
+    clubs += [random_club(chance, size, spread, 0.9) for size in (6, 7, 8, 9) for spread in (3, 5) for _ in range(20)]
+    pairs = [(club, ways_by_trying(club)) for club in clubs]
+    return [(club, ways) for club, ways in pairs if ways]
+
+
+def wide_club(chance, size):
+    """A possible club of so many members, with days up to 10 ** 30."""
+    step = TOP // (3 * size)
+    return [(day * step, came, number) for day, came, number in random_club(chance, size)]
+
+
+def wide_clubs():
+    """Possible clubs of 12 to 60 members, days up to 10 ** 30."""
+    chance = random.Random(41)
+    return [wide_club(chance, size) for size in (12, 17, 24, 33, 45, 60)]
+
+
+def fraction_of(top, bottom):
+    """The tuple of a fraction, in lowest terms."""
+    fraction = Fraction(top, bottom)
+    return (fraction.numerator, fraction.denominator)
+
+
+def added(parts):
+    """The sum of the fractions in a list of tuples (top, bottom)."""
+    return sum((Fraction(top, bottom) for top, bottom in parts), Fraction(0))
+
+
+def links_in(way):
+    """The links of a way, by their members."""
+    return [(bringer, member) for member, bringer in enumerate(way) if bringer is not None]
 
 
 def error_of(call, *args, **named):
@@ -105,6 +173,18 @@ def error_of(call, *args, **named):
         assert repr((args, named)) == repr(before), "the arguments were modified"
         return error
     raise AssertionError(f"{call.__name__} raised nothing")
+
+
+def kind_of(call, *args, **named):
+    """The class of the error that a call raises, and of no other one."""
+    return type(error_of(call, *args, **named))
+
+
+def conflict_in(call, *args, **named):
+    """The word and the number of the Impossible that a call raises."""
+    error = error_of(call, *args, **named)
+    assert type(error) is Impossible, error
+    return (error.word, error.number)
 
 
 def answer_of(call, *args, **named):
