@@ -4,7 +4,7 @@ The functions of the interface check their arguments. The others, which the
 rest of the package shares, trust that the club they get was checked.
 """
 
-from broughtin.errors import Impossible, InvalidClub, InvalidDay, InvalidIndex, InvalidMember
+from broughtin.errors import Impossible, InvalidClub, InvalidDay, InvalidGroup, InvalidIndex, InvalidMember
 
 LIMIT = 10 ** 30
 MOST_MEMBERS = 60
@@ -53,6 +53,24 @@ def check_day(day):
     """Raise InvalidDay for what is no day from 0 to the limit."""
     if not is_whole(day, LIMIT):
         raise InvalidDay("this is no day from 0 to 10 ** 30")
+
+
+def is_group(club, thing):
+    """Whether any object is an ascending list of members' indices."""
+    if type(thing) != list:
+        return False
+    last = -1
+    for member in thing:
+        if not is_whole(member, len(club) - 1) or member <= last:
+            return False
+        last = member
+    return True
+
+
+def check_group(club, group):
+    """Raise InvalidGroup for what is no ascending list of members' indices."""
+    if not is_group(club, group):
+        raise InvalidGroup("this is no ascending list of members' indices")
 
 
 def check_possible(club):
@@ -116,6 +134,11 @@ def day_table(club):
 def all_brought(club):
     """The indices of the brought members, ascending."""
     return [member for member, row in enumerate(club) if row[1] == "brought"]
+
+
+def brought_behind(club, member):
+    """The brought members with a greater day than this member's, ascending."""
+    return [i for i in all_brought(club) if club[i][0] > club[member][0]]
 
 
 def short_days(club):

@@ -100,6 +100,23 @@ def slot_owner(left, draw):
     return None
 
 
+def way_by_sides(club, owners, takers):
+    """A way in which the takers were brought by owners, and the other brought members by others.
+
+    It is made for takers with whom there is such a way.
+    """
+    left = numbers_in(club)
+    way = [None] * len(club)
+    for member in all_brought(club):
+        inside = member in takers
+        # With as many slots of each side as are taken of it, any free one of the side will do.
+        free = [i for i in range(member) if left[i] > 0 and club[i][0] < club[member][0]]
+        side = [i for i in free if (i in owners) == inside]
+        way[member] = side[0]
+        left[side[0]] -= 1
+    return way
+
+
 def is_draws(thing):
     """Whether any object is a list of integers."""
     return type(thing) == list and all([type(draw) == int for draw in thing])

@@ -1,7 +1,7 @@
 import inspect
 import unittest
 
-from broughtin import clubs, known, links, shares, ways
+from broughtin import clubs, families, groups, known, lines, links, sets, shares, ways
 
 # The functions that the document lists, with their arguments.
 INTERFACE = [
@@ -26,6 +26,27 @@ INTERFACE = [
     (shares, {
         "share": ["club", "bringer", "member"], "joint_share": ["club", "links"], "surest": ["club", "member"],
         "bringer_shares": ["club", "member"],
+    }),
+    (lines, {
+        "can_descend": ["club", "above", "below"], "descend_paper": ["club", "above", "below"],
+        "step_range": ["club", "above", "below"], "line_with": ["club", "above", "below", "steps"],
+        "depths_of": ["club", "member"], "generations": ["club"], "descent_share": ["club", "above", "below"],
+        "depth_shares": ["club", "member"], "mean_below": ["club", "member"],
+    }),
+    (sets, {
+        "can_have_brought": ["club", "bringer", "group"], "set_paper": ["club", "bringer", "group"],
+        "count_sets": ["club", "bringer"], "nth_set": ["club", "bringer", "index"],
+        "set_index": ["club", "bringer", "group"], "set_share": ["club", "bringer", "group"],
+        "second_sums": ["club", "bringer"], "second_range": ["club", "bringer"],
+    }),
+    (groups, {
+        "group_range": ["club", "bringers", "members"], "group_way": ["club", "bringers", "members", "number"],
+        "group_mean": ["club", "bringers", "members"],
+    }),
+    (families, {
+        "family_sizes": ["club", "member"], "family_way": ["club", "member", "size"],
+        "family_shares": ["club", "member"], "can_be_family": ["club", "member", "group"],
+        "family_paper": ["club", "member", "group"], "can_share_root": ["club", "one", "two"],
     }),
 ]
 

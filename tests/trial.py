@@ -4,7 +4,7 @@ import random
 from copy import deepcopy
 from fractions import Fraction
 from functools import lru_cache
-from itertools import product
+from itertools import combinations, product
 
 from broughtin.errors import Impossible
 
@@ -40,6 +40,11 @@ INVALID_CLUBS = STRANGE + [
 ]
 # Integers that are no member's index of the example.
 NO_MEMBERS = [-1, 6, 7, 60, TOP, -TOP, True, False]
+# No object here is a group of the example, or of a smaller club.
+NO_GROUPS = [
+    None, True, 0, 4, "", "45", (), (4, 5), {}, {4: 5}, [None], [[4]], [(4,)], ["4"], [True], [False], [0, True],
+    [-1], [6], [4, 6], [TOP], [-TOP, 2], [5, 4], [4, 4], [0, 1, 1], [2, 4, 3], [4, 5, None], [[], 2],
+]
 
 
 def lists_of_bringers(club, upto=None):
@@ -173,6 +178,24 @@ def error_of(call, *args, **named):
         assert repr((args, named)) == repr(before), "the arguments were modified"
         return error
     raise AssertionError(f"{call.__name__} raised nothing")
+
+
+def line_up(way, member):
+    """The member, its bringer, that one's bringer and so on, up to one who came alone."""
+    line = [member]
+    while way[line[-1]] is not None:
+        line.append(way[line[-1]])
+    return line
+
+
+def family_in(way, member):
+    """All who are below a member in one way, ascending."""
+    return [other for other in range(len(way)) if other != member and member in line_up(way, other)]
+
+
+def sublists(things):
+    """All ascending lists of some of the things."""
+    return [list(some) for size in range(len(things) + 1) for some in combinations(things, size)]
 
 
 def kind_of(call, *args, **named):
