@@ -34,7 +34,7 @@ def room_from(club, members, spot, most):
     if spot == 0:
         return most
     day = club[members[spot - 1]][0]
-    if spot < len(members) and club[members[spot]][0] == day:
+    if club[members[spot]][0] == day:
         return most
     # The days up to the next brought member have no less slack, for nobody takes a slot on them.
     return min(most, slack_on(club, day))
