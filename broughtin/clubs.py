@@ -17,24 +17,29 @@ def is_whole(thing, most):
     return type(thing) == int and 0 <= thing <= most
 
 
-def is_row(thing):
-    """Whether any object is a tuple that can stand in a club."""
+def is_row(thing, words):
+    """Whether any object is a tuple that can stand in a club, with one of the words for how the member came."""
     if type(thing) != tuple or len(thing) != 3:
         return False
     day, came, number = thing
-    return is_whole(day, LIMIT) and came in CAME_WORDS and is_whole(number, LIMIT)
+    return is_whole(day, LIMIT) and came in words and is_whole(number, LIMIT)
 
 
-def is_club(thing):
-    """Whether any object is a club."""
+def are_rows(thing, words):
+    """Whether any object has the form of a club, with one of the words for how each member came."""
     if type(thing) != list or not 1 <= len(thing) <= MOST_MEMBERS:
         return False
     last = 0
     for row in thing:
-        if not is_row(row) or row[0] < last:
+        if not is_row(row, words) or row[0] < last:
             return False
         last = row[0]
     return True
+
+
+def is_club(thing):
+    """Whether any object is a club."""
+    return are_rows(thing, CAME_WORDS)
 
 
 def check_club(club):
@@ -149,6 +154,11 @@ def short_days(club):
 def slots_left(club):
     """How many more all numbers together are than the brought members."""
     return sum([row[2] for row in club]) - len(all_brought(club))
+
+
+def has_way(club):
+    """Whether a checked club is possible."""
+    return slots_left(club) == 0 and not short_days(club)
 
 
 def days_in(club):

@@ -24,15 +24,21 @@ def slot_counts(club):
     return counts
 
 
+def slot_orders(club):
+    """In how many orders the members of a possible club can give their slots to those whom they brought."""
+    orders = 1
+    for number in numbers_in(club):
+        orders = orders * factorial(number)
+    return orders
+
+
 def ways_of(club):
     """How many ways a possible club has."""
     total = 1
     for count in slot_counts(club):
         total = total * count
     # Which of its slots a bringer gives to whom makes no other way.
-    for number in numbers_in(club):
-        total = total // factorial(number)
-    return total
+    return total // slot_orders(club)
 
 
 def next_parts(club, left, member, count, slots):
