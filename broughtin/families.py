@@ -4,7 +4,7 @@ from broughtin.clubs import (
     brought_behind, check_club, check_group, check_member, check_one, check_possible, check_two, day_table,
 )
 from broughtin.errors import InvalidGroup, InvalidNumber
-from broughtin.links import candidates, full_days
+from broughtin.links import all_candidates
 from broughtin.ratios import ratio
 from broughtin.ways import slot_counts, way_by_sides
 
@@ -104,8 +104,7 @@ def pairs_above(club, bringers, narrow, moved, pair):
 
 def meet_above(club, one, two):
     """Whether lines upward from two members can come together."""
-    closings = full_days(club)
-    bringers = [candidates(club, closings, member) for member in range(len(club))]
+    bringers = all_candidates(club)
     narrow = last_narrow_days(club)
     seen = {(one, two): True}
     waiting = [(one, two)]

@@ -37,6 +37,12 @@ def candidates(club, closings, member):
     return [i for i in range(len(club)) if reason_against(club, closings, i, member) is None]
 
 
+def all_candidates(club):
+    """For each member of a possible club the list of those who can have brought it, ascending."""
+    closings = full_days(club)
+    return [candidates(club, closings, member) for member in range(len(club))]
+
+
 def can_bring(club, bringer, member):
     """Whether some way has the link of the two."""
     check_two(club, bringer, member)

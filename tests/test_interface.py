@@ -1,7 +1,10 @@
 import inspect
 import unittest
 
-from broughtin import clubs, families, groups, known, lines, links, sets, shares, ways
+from broughtin import (
+    alike, clubs, families, groups, known, lines, links, live, reports, session, sets, shares, slips, texts, unsure,
+    ways,
+)
 
 # The functions that the document lists, with their arguments.
 INTERFACE = [
@@ -48,7 +51,34 @@ INTERFACE = [
         "family_shares": ["club", "member"], "can_be_family": ["club", "member", "group"],
         "family_paper": ["club", "member", "group"], "can_share_root": ["club", "one", "two"],
     }),
+    (unsure, {
+        "is_unsure_club": ["thing"], "choice_of": ["club"], "can_be_brought": ["club", "member"],
+        "must_be_brought": ["club", "member"], "count_choices": ["club"], "count_all_ways": ["club"],
+        "nth_any_way": ["club", "index"], "came_share": ["club", "member"],
+    }),
+    (slips, {
+        "one_number": ["club"], "two_numbers": ["club"], "one_came": ["club"], "one_day": ["club", "member"],
+    }),
+    (reports, {
+        "is_sheet": ["thing"], "stretch_clubs": ["sheet"], "report_conflict": ["sheet"], "report_ways": ["sheet"],
+        "report_bringers": ["sheet", "member"], "fewer_by": ["sheet"],
+    }),
+    (alike, {
+        "same_ways": ["club", "other"], "parting_way": ["club", "other"], "plain_club": ["club"],
+    }),
+    (texts, {
+        "write_club": ["club"], "read_club": ["text"], "write_way": ["way"], "read_way": ["text"],
+        "write_links": ["links"], "read_links": ["text"],
+    }),
+    (session, {"session": ["rows"]}),
 ]
+
+# The methods of a door with their arguments, and its properties.
+METHODS = {
+    "__init__": [], "enter": ["day", "came"], "tell": ["member", "number"], "ticket": ["bringer", "member"],
+    "undo": [], "mark": [], "undo_to": ["index"], "twin": [], "__len__": [],
+}
+PROPERTIES = ["club", "tickets", "ways"]
 
 
 class InterfaceTest(unittest.TestCase):
@@ -60,6 +90,18 @@ class InterfaceTest(unittest.TestCase):
                     self.assertTrue(inspect.isfunction(function))
                     self.assertEqual(function.__module__, module.__name__)
                     self.assertEqual(list(inspect.signature(function).parameters), arguments)
+
+    def test_the_class_of_doors(self):
+        self.assertTrue(inspect.isclass(live.Door))
+        self.assertEqual(live.Door.__module__, live.__name__)
+        for name, arguments in METHODS.items():
+            with self.subTest(name=name):
+                # vars holds what stands in the body of the class itself.
+                method = vars(live.Door)[name]
+                self.assertTrue(inspect.isfunction(method))
+                self.assertEqual(list(inspect.signature(method).parameters), ["self"] + arguments)
+        for name in PROPERTIES:
+            self.assertIsInstance(vars(live.Door)[name], property)
 
 
 if __name__ == "__main__":
